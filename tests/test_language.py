@@ -1,0 +1,77 @@
+"""Those rules of the language that can be seen by a look at the files of the package."""
+
+import ast
+import builtins
+import pathlib
+import re
+import unittest
+
+FOLDER = pathlib.Path(__file__).resolve().parent.parent / "crosslocks"
+FILES = sorted(FOLDER.rglob("*.py"))
+BUILTINS = set("""
+    len range enumerate zip min max sum abs sorted reversed int str bool bytes list tuple dict set frozenset
+    isinstance ord repr any all divmod iter next super property staticmethod classmethod object float print
+    Exception ValueError TypeError KeyError IndexError LookupError ZeroDivisionError ArithmeticError OverflowError
+    RuntimeError NotImplementedError AttributeError StopIteration NotImplemented __name__""".split())
+BARRED = re.compile(
+    r"\b(type|typing|typing_extensions|enum|Enum|IntEnum|StrEnum|Flag|IntFlag|Generic|Protocol|ABC|ABCMeta|namedtuple"
+    r"|NamedTuple|TypedDict|TYPE_CHECKING|abstractmethod)\b|dataclass|overload|contextmanager")
+
+
+class Language(unittest.TestCase):
+    def trees(self):
+        for file in FILES:
+            with self.subTest(file.name):
+                yield file, ast.parse(file.read_text())
+
+    def test_the_folder_has_files_of_the_package_alone(self):
+        self.assertIn(FOLDER / "__init__.py", FILES)
+        for path in FOLDER.iterdir():
+            if path.name != "__pycache__":
+                self.assertRegex(path.name, r"^(__init__|__main__|[a-z][a-z0-9_]*)\.py$")
+
+    def test_signs_and_sizes(self):
+        for file in FILES:
+            rows = file.read_text(encoding="utf-8").split("\n")
+            with self.subTest(file.name):
+                self.assertLessEqual(len(rows), 401)
+                for row in rows:
+                    self.assertRegex(row, r"^[ -~]{0,120}\Z")
+
+    def test_functions_are_small(self):
+        for file, tree in self.trees():
+            for node in ast.walk(tree):
+                if isinstance(node, ast.FunctionDef):
+                    self.assertLessEqual(node.end_lineno - node.lineno + 1, 40, node.name)
+
+    def test_barred_words(self):
+        for file in FILES:
+            with self.subTest(file.name):
+                self.assertIsNone(BARRED.search(file.read_text()))
+
+    def test_imports_from_the_package_alone(self):
+        for file, tree in self.trees():
+            for node in ast.walk(tree):
+                if isinstance(node, ast.Import):
+                    self.assertEqual((file.name, [name.name for name in node.names]), ("__main__.py", ["sys"]))
+                if isinstance(node, ast.ImportFrom):
+                    self.assertEqual(node.level, 0)
+                    self.assertRegex(node.module, r"^(crosslocks\..*|__future__)$")
+
+    def test_builtins(self):
+        for file, tree in self.trees():
+            for node in ast.walk(tree):
+                if isinstance(node, ast.Name) and hasattr(builtins, node.id):
+                    self.assertIn(node.id, BUILTINS)
+
+    def test_no_names_with_an_underscore_ahead_and_no_floats(self):
+        for file, tree in self.trees():
+            for node in ast.walk(tree):
+                if isinstance(node, ast.Name):
+                    self.assertRegex(node.id, r"^([A-Za-z]|__)")
+                self.assertFalse(isinstance(node, ast.Constant) and isinstance(node.value, (float, complex)))
+                self.assertNotIsInstance(node, (ast.Div, ast.Global))
+
+
+if __name__ == "__main__":
+    unittest.main()
