@@ -13,6 +13,37 @@ FULL = (8, 8, (
 CANALS = [RING, LOOPS, BARE, WIDE, FULL]
 
 
+# Things of all kinds that hardly anything tells True of.
+ODD = [
+    None, True, False, 0, 1, 2, 3, -1, 10 ** 30, "", "a", "abc", "red", "((1, 1, ()))",
+    (), [], (None,), [None], (1,), (1, 1), (1, 1, 1), (1, 1, 1, 1), [1, 1, []], [1, 1, ()], ("1", "1", ()),
+    ((), (), ()), [[], [], []], ((), ()), ("", "", ""), (None, None, None), (True, True, True), ((1, 1, ()),), [(1, 1, ())]]
+
+
+def deep(many, inmost, kinds):
+    """A thing so many deep of the kinds by turns."""
+    for depth in range(many):
+        inmost = kinds[depth % len(kinds)]([inmost])
+    return inmost
+
+
+KINDS = ([list], [tuple], [list, tuple], [tuple, list])
+DEEP = [
+    deep(many, inmost, kinds) for many in range(1, 8) for inmost in (1, "a", None, True, (), (1, 1, ()))
+    for kinds in KINDS]
+DEEPEST = [deep(10, inmost, kinds) for inmost in (1, "a", None, True) for kinds in KINDS]
+
+
+def spoilt(thing):
+    """The thing with one part of it, at any depth, or itself, put wrong: nowhere is any of these right."""
+    yield from (None, True, False, "", "0", "abc", [], [thing], (thing,), -1, -(10 ** 12))
+    if isinstance(thing, tuple):
+        yield list(thing)
+        for at, part in enumerate(thing):
+            for wrong in spoilt(part):
+                yield thing[:at] + (wrong,) + thing[at + 1:]
+
+
 def exact(thing):
     """A form in which 1 and True, and a list and a tuple of the same, are unlike."""
     if isinstance(thing, (list, tuple)):

@@ -1,35 +1,7 @@
 from crosslocks.canals import exchanged, exchanged_standing, is_canal, is_standing, pieces, together
 from tests.samples import (
-    BARE, CANALS, FULL, LOOPS, RING, WIDE, Case, listed, many_canals, many_standings, mixed, tupled)
-
-ODD = [
-    None, True, False, 0, 1, 2, 3, -1, 10 ** 30, "", "a", "abc", "red", "((1, 1, ()))",
-    (), [], (None,), [None], (1,), (1, 1), (1, 1, 1), (1, 1, 1, 1), [1, 1, []], [1, 1, ()], ("1", "1", ()),
-    ((), (), ()), [[], [], []], ((), ()), ("", "", ""), (None, None, None), (True, True, True), ((1, 1, ()),), [(1, 1, ())]]
-
-
-def deep(many, inmost, kinds):
-    """A thing so many deep of the kinds by turns."""
-    for depth in range(many):
-        inmost = kinds[depth % len(kinds)]([inmost])
-    return inmost
-
-
-KINDS = ([list], [tuple], [list, tuple], [tuple, list])
-DEEP = [
-    deep(many, inmost, kinds) for many in range(1, 8) for inmost in (1, "a", None, True, (), (1, 1, ()))
-    for kinds in KINDS]
-DEEPEST = [deep(10, inmost, kinds) for inmost in (1, "a", None, True) for kinds in KINDS]
-
-
-def spoilt(thing):
-    """The thing with one part of it, at any depth, or itself, put wrong: nowhere is any of these right."""
-    yield from (None, True, False, "", "0", "abc", [], [thing], (thing,), -1, -(10 ** 12))
-    if isinstance(thing, tuple):
-        yield list(thing)
-        for at, part in enumerate(thing):
-            for wrong in spoilt(part):
-                yield thing[:at] + (wrong,) + thing[at + 1:]
+    BARE, CANALS, DEEP, DEEPEST, FULL, LOOPS, ODD, RING, WIDE, Case, deep, listed, many_canals, many_standings, mixed,
+    spoilt, tupled)
 
 
 class IsCanal(Case):

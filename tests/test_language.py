@@ -72,6 +72,35 @@ class Language(unittest.TestCase):
                 self.assertFalse(isinstance(node, ast.Constant) and isinstance(node.value, (float, complex)))
                 self.assertNotIsInstance(node, (ast.Div, ast.Global))
 
+    def test_is_stands_beside_none_true_and_false_alone(self):
+        for file, tree in self.trees():
+            for node in ast.walk(tree):
+                if isinstance(node, ast.Compare):
+                    for sign, right in zip(node.ops, node.comparators):
+                        if isinstance(sign, (ast.Is, ast.IsNot)):
+                            self.assertIn(getattr(right, "value", "another"), (None, True, False))
+
+    def test_no_name_within_a_function_means_something_else(self):
+        for file, tree in self.trees():
+            outer = {name.name for node in tree.body if isinstance(node, ast.ImportFrom) for name in node.names}
+            outer |= {node.name for node in tree.body if isinstance(node, ast.ClassDef)}
+            for node in ast.walk(tree):
+                within = [node.id] if isinstance(node, ast.Name) and isinstance(node.ctx, ast.Store) else []
+                within += [node.arg] if isinstance(node, ast.arg) else []
+                for name in within:
+                    self.assertNotIn(name, outer)
+                    self.assertFalse(hasattr(builtins, name), name)
+
+    def test_no_two_files_import_from_each_other(self):
+        imported = {}
+        for file, tree in self.trees():
+            found = [node.module for node in ast.walk(tree) if isinstance(node, ast.ImportFrom)]
+            imported["crosslocks." + file.stem] = [name for name in found if name.startswith("crosslocks.")]
+        while imported:
+            done = [name for name in imported if not any(other in imported for other in imported[name])]
+            self.assertTrue(done, imported)
+            imported = {name: imported[name] for name in imported if name not in done}
+
 
 if __name__ == "__main__":
     unittest.main()

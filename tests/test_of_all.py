@@ -1,10 +1,17 @@
 """What holds of all functions: how they're handed things, and whose is what they tell."""
 
 import copy
+import random
 
 from crosslocks.canals import exchanged, exchanged_standing, is_canal, is_standing, pieces, together
-from crosslocks.errors import NoBoat
+from crosslocks.counts import almanac, counts, rounds, shows_counts, shows_round, sure
+from crosslocks.errors import NoBoat, NoCounts
 from crosslocks.goings import gone, gone_all, may_go, went
+from crosslocks.heights import bar, is_heights, shows_bar, weight
+from crosslocks.measures import have_counts, lots, measures, scales
+from crosslocks.tellers import known, round_by, shows_teller, stride, teller
+from tests.apart import (
+    BESIDE, FOUR, KINDS, TWICE, are_heights, bars, changed, fits, goes_round, large_canal, ring_of, some_pair, tells)
 from tests.samples import FULL, LOOPS, RING, WIDE, Case, emptied, exact, listed, mixed, tupled
 
 STANDING = ((1, 0, 2), (0, 1, 1), (0, 1, 0))
@@ -31,6 +38,62 @@ CALLS = [
     (went, {"canal": RING, "standing": STANDING, "row": []}, ([0, 0, 0], [0, 0, 0])),
     (may_go, {"canal": FULL, "standing": MANY}, [(lock, water) for lock in range(10) for water in ("red", "blue")]),
     (exchanged_standing, {"standing": MANY}, MANY),
+]
+# Where one boat has gone around from basin 0 to basin 1 of a ring, and where one lies otherwise.
+AROUND = ring_of(3)
+ONE = ((1, 0, 2), (0, 4), (0, 0, 1))
+OTHER = ((0, 1, 2), (0, 4), (1, 0, 1))
+ELSEWHERE = ((0, 1, 2), (0, 4), (0, 0, 1))
+CALLS += [
+    (counts, {"canal": AROUND, "one": ONE, "other": OTHER}, [1, 0, 0]),
+    (counts, {"canal": AROUND, "one": ONE, "other": ELSEWHERE}, None),
+    (shows_counts, {"canal": AROUND, "one": ONE, "other": OTHER, "thing": [1, 0, 0]}, True),
+    (shows_counts, {"canal": AROUND, "one": ONE, "other": OTHER, "thing": (1, 0, 0)}, False),
+    (shows_counts, {"canal": AROUND, "one": OTHER, "other": ONE, "thing": [1, 0, 0]}, False),
+    (shows_round, {"canal": TWICE, "thing": [2, 1, 1, 1]}, True),
+    (shows_round, {"canal": TWICE, "thing": (2, 1, 1, 1)}, False),
+    (rounds, {"canal": AROUND}, []),
+    (sure, {"canal": LOOPS}, [2]),
+    (almanac, {"canal": AROUND, "one": ONE, "other": OTHER}, [(1, 0), (0, 0), (0, 0)]),
+    (almanac, {"canal": LOOPS, "one": ((1, 0), (1,), (0, 0, 0)), "other": ((0, 1), (1,), (1, 0, 1))}, [None, None, (1, 0)]),
+    (is_heights, {"canal": AROUND, "thing": (3, (0, 1, 2), (0, 1))}, True),
+    (is_heights, {"canal": AROUND, "thing": [3, [0, 1, 2], [0, 1]]}, False),
+    (weight, {"canal": AROUND, "heights": (3, (0, 1, 2), (0, 1)), "standing": ONE}, 1),
+    (bar, {"canal": AROUND, "one": ONE, "other": OTHER}, None),
+    (shows_bar, {"canal": AROUND, "one": ONE, "other": ELSEWHERE, "thing": (3, (0, 1, 2), (0, 1))}, True),
+    (shows_bar, {"canal": AROUND, "one": ONE, "other": OTHER, "thing": (3, (0, 1, 2), (0, 1))}, False),
+    (measures, {"canal": FOUR}, [4, 4, 0, 0]),
+    (have_counts, {"canal": AROUND, "one": ONE, "other": OTHER}, True),
+    (have_counts, {"canal": AROUND, "one": ONE, "other": ELSEWHERE}, False),
+    (lots, {"canal": AROUND, "standings": [ONE, ELSEWHERE, OTHER, ONE]}, [[0, 2, 3], [1]]),
+    (lots, {"canal": AROUND, "standings": []}, []),
+    (teller, {"canal": LOOPS, "lock": 1}, None),
+    (shows_teller, {"canal": AROUND, "lock": 0, "thing": (3, (0, 2, 1), (1, 0))}, True),
+    (shows_teller, {"canal": AROUND, "lock": 1, "thing": (3, (0, 2, 1), (1, 0))}, False),
+    (round_by, {"canal": AROUND, "lock": 1}, None),
+    (stride, {"canal": TWICE, "lock": 0}, 2),
+    (known, {"canal": AROUND, "lock": 0, "one": ONE, "other": OTHER}, (1, 0)),
+    (known, {"canal": TWICE, "lock": 0, "one": ((1, 0, 0), (0, 0, 0), (0, 0, 0, 0)),
+             "other": ((0, 1, 0), (0, 0, 0), (1, 0, 0, 0))}, (1, 2)),
+]
+# Which one is told isn't promised: the same one each time, whatever way it's asked.
+UNPROMISED = [
+    (counts, {"canal": RING, "one": STANDING, "other": STANDING}),
+    (rounds, {"canal": RING}),
+    (rounds, {"canal": BESIDE}),
+    (rounds, {"canal": FULL}),
+    (bar, {"canal": AROUND, "one": ONE, "other": ELSEWHERE}),
+    (bar, {"canal": FULL, "one": MANY, "other": ((0,) * 8, (0,) * 8, (0,) * 10)}),
+    (scales, {"canal": FULL}),
+    (scales, {"canal": FOUR}),
+    (teller, {"canal": FOUR, "lock": 5}),
+    (round_by, {"canal": TWICE, "lock": 3}),
+    (round_by, {"canal": KINDS[6], "lock": 2}),
+]
+CALLS += [(call, names, copy.deepcopy(call(**names))) for call, names in UNPROMISED]
+NO_COUNTS = [
+    (almanac, {"canal": AROUND, "one": ONE, "other": ELSEWHERE}),
+    (known, {"canal": AROUND, "lock": 1, "one": ONE, "other": ELSEWHERE}),
 ]
 REFUSED = [
     (gone, {"canal": RING, "standing": STANDING, "going": (0, "blue")}, (0, "blue")),
@@ -91,6 +154,17 @@ class OfAll(Case):
                     self.refused(NoBoat, "going", going, call, **dict(reversed(handed.items())))
                     self.assertEqual(exact(list(handed.values())), before)
 
+    def test_no_counts_by_places_and_names_and_nothing_is_changed(self):
+        for call, names in NO_COUNTS:
+            for handed in ways_handed(names):
+                before = exact(list(handed.values()))
+                for places, named in (handed.values(), {}), ((), dict(reversed(handed.items()))):
+                    with self.subTest(call.__name__, handed=handed):
+                        with self.assertRaises(NoCounts) as caught:
+                            call(*places, **named)
+                        self.assertIs(type(caught.exception), NoCounts)
+                        self.assertEqual(exact(list(handed.values())), before)
+
     def test_what_is_handed_in_is_not_kept(self):
         for call, names, wanted in CALLS:
             for handed in ways_handed(names):
@@ -139,3 +213,39 @@ class OfAll(Case):
         self.same(pieces(canal, "red"), [tuple(range(12))])
         self.same(together(canal, canal)[:2], (24, 22))
         self.same(went(canal, standing, [(3, "red")] * 451)[0][3], 1)
+
+    def told_of_all(self, canal, one, other, last):
+        """All that is told of these is right, and may be handed in again; last has no counts of one."""
+        self.assertTrue(fits(canal, one, other, counts(canal, one, other)))
+        self.assertIs(shows_counts(canal, one, other, counts(canal, one, other)), True)
+        self.assertIs(counts(canal, one, last), None)
+        self.assertTrue(bars(canal, one, last, bar(canal, one, last)))
+        self.assertIs(shows_bar(canal, one, last, bar(canal, one, last)), True)
+        self.assertIs(bar(canal, one, other), None)
+        self.same(lots(canal, [one, last, other]), [[0, 2], [1]])
+        for heights in scales(canal):
+            self.assertTrue(are_heights(canal, heights))
+            self.assertIs(is_heights(canal, heights), True)
+            self.same(weight(canal, heights, one), weight(canal, heights, other))
+        for turn in rounds(canal):
+            self.assertTrue(goes_round(canal, turn))
+            self.assertIs(shows_round(canal, turn), True)
+        for lock, pair in enumerate(almanac(canal, one, other)):
+            self.assertEqual(lock in sure(canal), pair is not None)
+            self.assertEqual(stride(canal, lock), known(canal, lock, one, other)[1])
+            if pair is None:
+                self.assertIs(teller(canal, lock), None)
+                self.assertIs(shows_round(canal, round_by(canal, lock)), True)
+            else:
+                self.assertTrue(tells(canal, lock, teller(canal, lock)))
+                self.assertIs(shows_teller(canal, lock, teller(canal, lock)), True)
+
+    def test_at_the_bounds_and_somewhat_beyond(self):
+        chance = random.Random(90)
+        beyond = (12, 11, tuple((k % 12, (k + 5) % 12, k % 11, (k + 3) % 11) for k in range(14)))
+        for canal in (FULL, ring_of(8), beyond, ring_of(14), exchanged(ring_of(13)), large_canal(chance)):
+            for boats in (10 ** 12, 10 ** 13):
+                one, other, numbers = some_pair(chance, canal, boats)
+                with self.subTest((canal, one, other)):
+                    self.told_of_all(canal, one, other, changed(other, 0, 0, 1))
+                    self.told_of_all(canal, one, other, changed(other, 1, 1, -1))
