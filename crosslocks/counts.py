@@ -94,6 +94,11 @@ def sure(canal):
     return sure_by(form_of(canal))
 
 
+def went_by(one, other, numbers):
+    """For each lock the pair of how many more reds, blues went forth by it than back, by such COUNTS."""
+    return [(number, last - first - number) for number, first, last in zip(numbers, one[2], other[2])]
+
+
 def almanac(canal, one, other):
     """For each sure lock the pair of how many more reds, blues went forth by it than back; None for each other."""
     form = form_of(canal)
@@ -101,7 +106,7 @@ def almanac(canal, one, other):
     if numbers is None:
         raise NoCounts()
     told = [None for lock in numbers]
+    pairs = went_by(one, other, numbers)
     for lock in sure_by(form):
-        higher = other[2][lock] - one[2][lock]
-        told[lock] = (numbers[lock], higher - numbers[lock])
+        told[lock] = pairs[lock]
     return told

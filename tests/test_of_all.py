@@ -3,16 +3,22 @@
 import copy
 import random
 
+from crosslocks.alone import asleep, leads, row_alone, woken
 from crosslocks.canals import exchanged, exchanged_standing, is_canal, is_standing, pieces, together
 from crosslocks.counts import almanac, counts, rounds, shows_counts, shows_round, sure
-from crosslocks.errors import NoBoat, NoCounts
+from crosslocks.errors import Loose, NoBoat, NoCounts, Others, TooMany
 from crosslocks.goings import gone, gone_all, may_go, went
 from crosslocks.heights import bar, is_heights, shows_bar, weight
 from crosslocks.measures import have_counts, lots, measures, scales
+from crosslocks.plenty import fewest, how_many, is_enough, plain_row, wanted
+from crosslocks.small import far, is_stuck, lot_of, scarce, shows_lot, way
 from crosslocks.tellers import known, round_by, shows_teller, stride, teller
+from crosslocks.tolls import paid, paid_by, step
 from tests.apart import (
-    BESIDE, FOUR, KINDS, TWICE, are_heights, bars, changed, fits, goes_round, large_canal, ring_of, some_pair, tells)
+    BESIDE, FOUR, KINDS, TWICE, are_heights, bars, changed, fits, goes_round, large_canal, moved, ring_of,
+    some_pair, tells)
 from tests.samples import FULL, LOOPS, RING, WIDE, Case, emptied, exact, listed, mixed, tupled
+from tests.through import is_multiple
 
 STANDING = ((1, 0, 2), (0, 1, 1), (0, 1, 0))
 MANY = ((10 ** 12,) * 8, (10 ** 12,) * 8, (0, 1) * 5)
@@ -76,6 +82,55 @@ CALLS += [
     (known, {"canal": TWICE, "lock": 0, "one": ((1, 0, 0), (0, 0, 0), (0, 0, 0, 0)),
              "other": ((0, 1, 0), (0, 0, 0), (1, 0, 0, 0))}, (1, 2)),
 ]
+TOLLS = [(5, 1), (7, 7), (0, -3)]
+DOUBLE = [(5, 0), (0, 0), (0, 0), (0, 0)]
+LOCK = (2, 2, ((0, 1, 0, 1),))
+LOW, HIGH = ((2, 0), (0, 1), (0,)), ((1, 1), (0, 1), (1,))
+CALLS += [
+    (paid_by, {"canal": RING, "tolls": TOLLS, "standing": STANDING, "row": ROW}, -3),
+    (paid_by, {"canal": RING, "tolls": TOLLS, "standing": STANDING, "row": []}, 0),
+    (step, {"canal": TWICE, "tolls": DOUBLE}, 10),
+    (step, {"canal": AROUND, "tolls": TOLLS}, 0),
+    (paid, {"canal": AROUND, "tolls": TOLLS, "one": ONE, "other": OTHER}, (5, 0)),
+    (paid, {"canal": TWICE, "tolls": DOUBLE, "one": ((0, 1, 0), (0, 0, 0), (1, 0, 0, 0)),
+            "other": ((1, 0, 0), (0, 0, 0), (0, 0, 0, 0))}, (5, 10)),
+    (plain_row, {"canal": AROUND, "one": ONE, "other": OTHER, "counts": [1, 0, 0]}, [(0, "red")]),
+    (plain_row, {"canal": LOCK, "one": LOW, "other": ((0, 2), (1, 0), (1,)), "counts": [2]},
+     [(0, "red"), (0, "blue"), (0, "red")]),
+    (how_many, {"canal": LOCK, "one": LOW, "other": ((0, 2), (1, 0), (1,)), "counts": [2]}, 3),
+    (wanted, {"canal": LOCK, "one": LOW, "other": ((0, 2), (1, 0), (1,)), "counts": [2]}, ((2, 0), (0, 1))),
+    (is_enough, {"canal": LOCK, "one": LOW, "other": ((0, 2), (1, 0), (1,)), "counts": [2]}, True),
+    (is_enough, {"canal": (3, 1, ((1, 2, 0, 0), (0, 1, 0, 0))), "one": ((1, 0, 0), (0,), (0, 0)),
+                 "other": ((0, 0, 1), (0,), (1, 1)), "counts": [1, 1]}, False),
+    (fewest, {"canal": LOCK, "one": LOW, "other": ((0, 2), (1, 0), (1,))}, 3),
+    (lot_of, {"canal": LOCK, "standing": LOW},
+     [((0, 2), (1, 0), (1,)), ((1, 1), (0, 1), (1,)), ((1, 1), (1, 0), (0,)), LOW]),
+    (shows_lot, {"canal": LOCK, "standing": ((1, 0), (0, 0), (0,)),
+                 "thing": [((0, 1), (0, 0), (1,)), ((1, 0), (0, 0), (0,))]}, True),
+    (shows_lot, {"canal": LOCK, "standing": ((1, 0), (0, 0), (0,)),
+                 "thing": (((0, 1), (0, 0), (1,)), ((1, 0), (0, 0), (0,)))}, False),
+    (shows_lot, {"canal": LOCK, "standing": LOW, "thing": listed([LOW])}, False),
+    (far, {"canal": LOCK, "one": LOW, "other": HIGH}, 1),
+    (far, {"canal": LOCK, "one": LOW, "other": STANDING}, None),
+    (way, {"canal": LOCK, "one": LOW, "other": ((0, 2), (1, 0), (1,))}, [(0, "red"), (0, "blue"), (0, "red")]),
+    (way, {"canal": LOCK, "one": LOW, "other": LOW}, []),
+    (way, {"canal": LOCK, "one": LOW, "other": ((2, 0), (0, 1), (1,))}, None),
+    (is_stuck, {"canal": LOCK, "standing": LOW}, False),
+    (is_stuck, {"canal": LOCK, "standing": ((0, 1), (0, 1), (0,))}, True),
+    (scarce, {"canal": LOCK, "one": LOW, "other": HIGH}, False),
+    (scarce, {"canal": AROUND, "one": ((0, 0, 0), (0, 3), (0, 0, 0)), "other": ((0, 0, 0), (3, 0), (0, 0, 0))}, True),
+    (asleep, {"canal": RING, "standing": ((0, 1, 0), (0, 0, 0), (0, 0, 1)), "water": "red"}, [0]),
+    (asleep, {"canal": RING, "standing": ((0, 0, 0), (0, 0, 0), (0, 0, 1)), "water": "blue"}, [0, 1, 2]),
+    (leads, {"canal": LOCK, "one": ((2, 0), (0, 0), (0,)), "other": ((1, 1), (0, 0), (1,)), "water": "red"}, True),
+    (leads, {"canal": LOCK, "one": ((2, 0), (0, 0), (0,)), "other": ((1, 1), (0, 0), (0,)), "water": "red"}, False),
+    (row_alone, {"canal": LOCK, "one": ((2, 0), (0, 0), (0,)), "other": ((1, 1), (0, 0), (1,)), "water": "red"},
+     [(0, "red")]),
+    (row_alone, {"canal": LOCK, "one": ((2, 0), (0, 0), (0,)), "other": ((1, 1), (0, 0), (0,)), "water": "red"}, None),
+    (woken, {"canal": RING, "standing": ((0, 1, 0), (0, 0, 0), (0, 0, 0)), "water": "red", "basin": 0},
+     [(1, "red"), (2, "red")]),
+    (woken, {"canal": RING, "standing": ((0, 1, 0), (0, 0, 0), (0, 0, 0)), "water": "red", "basin": 1}, []),
+    (woken, {"canal": RING, "standing": ((0, 1, 0), (0, 0, 0), (0, 0, 1)), "water": "red", "basin": 0}, None),
+]
 # Which one is told isn't promised: the same one each time, whatever way it's asked.
 UNPROMISED = [
     (counts, {"canal": RING, "one": STANDING, "other": STANDING}),
@@ -89,16 +144,32 @@ UNPROMISED = [
     (teller, {"canal": FOUR, "lock": 5}),
     (round_by, {"canal": TWICE, "lock": 3}),
     (round_by, {"canal": KINDS[6], "lock": 2}),
+    (row_alone, {"canal": AROUND, "one": ((2, 0, 0), (0, 0), (0, 0, 0)), "other": ((2, 0, 0), (0, 0), (1, 1, 1)),
+                 "water": "red"}),
 ]
 CALLS += [(call, names, copy.deepcopy(call(**names))) for call, names in UNPROMISED]
 NO_COUNTS = [
     (almanac, {"canal": AROUND, "one": ONE, "other": ELSEWHERE}),
     (known, {"canal": AROUND, "lock": 1, "one": ONE, "other": ELSEWHERE}),
+    (paid, {"canal": AROUND, "tolls": TOLLS, "one": ONE, "other": ELSEWHERE}),
+    (fewest, {"canal": AROUND, "one": ONE, "other": ELSEWHERE}),
 ]
+TWO_ROWS = [(0, "red"), (0, "blue")] * 2
+# Each is what is called, what it's handed, the class that it's refused with, its field and what that has.
 REFUSED = [
-    (gone, {"canal": RING, "standing": STANDING, "going": (0, "blue")}, (0, "blue")),
-    (gone_all, {"canal": RING, "standing": STANDING, "row": [(0, "red"), (0, "blue")] * 2}, (0, "red")),
-    (went, {"canal": RING, "standing": STANDING, "row": [(0, "red"), (0, "blue")] * 2}, (0, "red")),
+    (gone, {"canal": RING, "standing": STANDING, "going": (0, "blue")}, NoBoat, "going", (0, "blue")),
+    (gone_all, {"canal": RING, "standing": STANDING, "row": TWO_ROWS}, NoBoat, "going", (0, "red")),
+    (went, {"canal": RING, "standing": STANDING, "row": TWO_ROWS}, NoBoat, "going", (0, "red")),
+    (paid_by, {"canal": RING, "tolls": TOLLS, "standing": STANDING, "row": TWO_ROWS}, NoBoat, "going", (0, "red")),
+    (fewest, {"canal": TWICE, "one": ((0,) * 3, (0,) * 3, (0,) * 4), "other": ((0,) * 3, (0,) * 3, (0,) * 4)}, Loose, "lock", 0),
+    (lot_of, {"canal": FULL, "standing": MANY}, TooMany, "many", 400),
+    (far, {"canal": FULL, "one": MANY, "other": MANY}, TooMany, "many", 400),
+    (way, {"canal": FULL, "one": MANY, "other": MANY}, TooMany, "many", 400),
+    (scarce, {"canal": FULL, "one": MANY, "other": MANY}, TooMany, "many", 400),
+    (asleep, {"canal": RING, "standing": STANDING, "water": "red"}, Others, "basin", 1),
+    (leads, {"canal": RING, "one": STANDING, "other": STANDING, "water": "blue"}, Others, "basin", 0),
+    (row_alone, {"canal": RING, "one": STANDING, "other": STANDING, "water": "red"}, Others, "basin", 1),
+    (woken, {"canal": RING, "standing": STANDING, "water": "blue", "basin": 2}, Others, "basin", 0),
 ]
 
 
@@ -146,12 +217,12 @@ class OfAll(Case):
                     self.assertEqual(exact(list(handed.values())), before)
 
     def test_refused_by_places_and_names_and_nothing_is_changed(self):
-        for call, names, going in REFUSED:
+        for call, names, error, field, worth in REFUSED:
             for handed in ways_handed(names):
                 before = exact(list(handed.values()))
                 with self.subTest(call.__name__, handed=handed):
-                    self.refused(NoBoat, "going", going, call, *handed.values())
-                    self.refused(NoBoat, "going", going, call, **dict(reversed(handed.items())))
+                    self.refused(error, field, worth, call, *handed.values())
+                    self.refused(error, field, worth, call, **dict(reversed(handed.items())))
                     self.assertEqual(exact(list(handed.values())), before)
 
     def test_no_counts_by_places_and_names_and_nothing_is_changed(self):
@@ -176,14 +247,14 @@ class OfAll(Case):
                     self.same(call(**names), wanted)
 
     def test_what_a_refusal_has_is_not_kept(self):
-        for call, names, going in REFUSED:
+        for call, names, error, field, worth in REFUSED:
             for handed in ways_handed(names):
                 with self.subTest(call.__name__, handed=handed):
-                    with self.assertRaises(NoBoat) as caught:
+                    with self.assertRaises(error) as caught:
                         call(**handed)
-                    for worth in handed.values():
-                        emptied(worth)
-                    self.same(caught.exception.going, going)
+                    for part in handed.values():
+                        emptied(part)
+                    self.same(getattr(caught.exception, field), worth)
 
     def test_what_is_told_is_the_askers_own(self):
         for call, names, wanted in CALLS:
@@ -239,6 +310,25 @@ class OfAll(Case):
             else:
                 self.assertTrue(tells(canal, lock, teller(canal, lock)))
                 self.assertIs(shows_teller(canal, lock, teller(canal, lock)), True)
+
+    def test_rows_and_small_ones_somewhat_beyond_the_bounds(self):
+        beyond = (12, 11, tuple((k % 12, (k + 5) % 12, k % 11, (k + 3) % 11) for k in range(14)))
+        rich, tolls = ((10 ** 14,) * 12, (10 ** 14,) * 11, (0, 1) * 7), [(10 ** 13, -(10 ** 13))] * 14
+        numbers = [10 ** 13, -(10 ** 13)] * 7
+        last = moved(beyond, rich, numbers, (1, 1) * 7)
+        self.same(how_many(beyond, rich, last, numbers), 28 * 10 ** 13 - 7)
+        self.same(is_enough(beyond, rich, last, numbers), True)
+        highs = [there - here for here, there in zip(rich[2], last[2])]
+        really = 10 ** 13 * sum(2 * number - high for number, high in zip(numbers, highs))
+        what, by = paid(beyond, tolls, rich, last)
+        self.assertTrue(is_multiple(really - what, by))
+        self.same(paid_by(beyond, tolls, rich, [(0, "red"), (0, "blue")] * 225), 450 * 10 ** 13)
+        self.same(len(plain_row(beyond, rich, moved(beyond, rich, [20] * 14, rich[2]), [20] * 14)), 560)
+        self.refused(TooMany, "many", 400, lot_of, beyond, rich)
+        alone = (10 ** 14,) + (0,) * 11, (0,) * 11, (0,) * 14
+        self.same(asleep(beyond, alone, "red"), [])
+        self.same(woken(beyond, alone, "red", 10), [(0, "red"), (5, "red")])
+        self.same(row_alone(beyond, alone, gone(beyond, alone, (0, "red")), "red"), [(0, "red")])
 
     def test_at_the_bounds_and_somewhat_beyond(self):
         chance = random.Random(90)

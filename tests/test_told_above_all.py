@@ -1,14 +1,21 @@
-"""Point [1] (a), (b), (c): over canals and rows of goings that are made up here."""
+"""Point [1] (a) to (e), (g): over canals and rows of goings that are made up here."""
 
 import random
 
+from crosslocks.alone import asleep, leads, row_alone
+from crosslocks.canals import exchanged, exchanged_standing
 from crosslocks.counts import almanac, counts, shows_counts, shows_round, sure
+from crosslocks.goings import gone_all
 from crosslocks.heights import bar, shows_bar, weight
 from crosslocks.measures import have_counts, lots, measures, scales
+from crosslocks.plenty import fewest, how_many, is_enough, plain_row, wanted
+from crosslocks.small import far, lot_of, scarce, way
 from crosslocks.tellers import known, round_by, stride
+from crosslocks.tolls import paid, paid_by, step
 from tests.apart import (
     FOUR, KINDS, TWICE, all_canals, changed, goes_round, large_canal, moved, other_boats, ring_of, some_ends, some_pair)
-from tests.samples import Case, some_standing
+from tests.samples import Case, some_row, some_standing
+from tests.through import all_alone, behind, is_multiple, pays, rows_to_all, shortest_with, some_tolls, went_in
 
 
 class FromTwoStandingsAlone(Case):
@@ -102,3 +109,107 @@ class ByTheMeasures(Case):
                     with self.subTest((canal, seen[first], seen[last])):
                         self.assertIs(have_counts(canal, seen[first], seen[last]), alike)
                         self.assertIs(lot_of[first] == lot_of[last], alike)
+
+
+class WhereBoatsArePlenty(Case):
+    """(d)"""
+
+    def test_counts_are_gone(self):
+        chance = random.Random(85)
+        for canal in KINDS + all_canals(20) + [large_canal(chance) for _ in range(10)]:
+            one = (99,) * canal[0], (99,) * canal[1], some_standing(chance, canal)[2]
+            other = moved(canal, one, [chance.randint(-9, 9) for _ in canal[2]], some_standing(chance, canal)[2])
+            numbers = counts(canal, one, other)
+            row = plain_row(canal, one, other, numbers)
+            with self.subTest((canal, one, other, numbers)):
+                self.same(is_enough(canal, one, other, numbers), True)
+                self.same(gone_all(canal, one, row), other)
+                self.same(behind(canal, one, row), other)
+                self.same(went_in(canal, one, row)[0], numbers)
+                self.same(how_many(canal, one, other, numbers), len(row))
+
+    def test_with_just_as_many_boats_as_are_wanted(self):
+        chance = random.Random(86)
+        for canal in KINDS + all_canals(20):
+            numbers = [chance.randint(-3, 3) for _ in canal[2]]
+            none = (0,) * canal[0], (0,) * canal[1], some_standing(chance, canal)[2]
+            stands = some_standing(chance, canal)[2]
+            one = (*wanted(canal, none, moved(canal, none, numbers, stands), numbers), none[2])
+            other = moved(canal, one, numbers, stands)
+            self.same(gone_all(canal, one, plain_row(canal, one, other, numbers)), other)
+
+    def test_by_the_fewest_goings(self):
+        chance = random.Random(87)
+        for canal in KINDS:
+            one = (4,) * canal[0], (4,) * canal[1], some_standing(chance, canal)[2]
+            numbers = [0] * len(canal[2])
+            for lock in chance.sample(range(len(canal[2])), 2):
+                numbers[lock] = chance.choice((-1, 1))
+            other = moved(canal, one, numbers, one[2])
+            with self.subTest((canal, one, other, numbers)):
+                self.same(how_many(canal, one, other, numbers), 4)
+                self.same(shortest_with(canal, one, other, numbers, 4), 4)
+
+    def test_fewest_against_all_that_is_gone_through(self):
+        seen = 0
+        chance = random.Random(88)
+        for canal in (FOUR, ring_of(1), ring_of(2), ring_of(3), ring_of(4), (2, 2, ((0, 1, 0, 1),))):
+            for _ in range(4):
+                one = some_standing(chance, canal, 1)
+                rows = rows_to_all(canal, one)
+                if rows is None:
+                    continue
+                for other in chance.sample(sorted(rows), min(len(rows), 20)):
+                    enough = is_enough(canal, one, other, counts(canal, one, other))
+                    seen += enough
+                    with self.subTest((canal, one, other)):
+                        self.assertLessEqual(fewest(canal, one, other), far(canal, one, other))
+                        if enough:
+                            self.same(fewest(canal, one, other), far(canal, one, other))
+                        self.same(len(way(canal, one, other)), len(rows[other]))
+                        self.same(scarce(canal, one, other), False)
+        self.assertGreater(seen, 40)
+
+
+class OneWaterAlone(Case):
+    """(e)"""
+
+    def test_against_all_that_is_gone_through(self):
+        chance = random.Random(89)
+        for canal in KINDS + [TWICE, ring_of(3)]:
+            if len(canal[2]) > 5:
+                continue
+            for boats in (0, 1, 2):
+                standings = list(all_alone(canal, "red", boats))
+                one = chance.choice(standings)
+                lot = lot_of(canal, one)
+                for other in standings:
+                    comes = leads(canal, one, other, "red")
+                    if comes != (other in lot):
+                        self.fail((canal, one, other))
+                    row = row_alone(canal, one, other, "red")
+                    self.assertEqual(row is not None, comes)
+                    if comes:
+                        self.assertEqual(gone_all(canal, one, row), other)
+                        self.assertEqual(asleep(canal, other, "red"), asleep(canal, one, "red"))
+                    turned = [exchanged_standing(one), exchanged_standing(other)]
+                    self.assertIs(leads(exchanged(canal), *turned, "blue"), comes)
+
+
+class WhatWasPaid(Case):
+    """(g)"""
+
+    def test_what_was_really_paid(self):
+        chance = random.Random(91)
+        for canal in KINDS + all_canals(20) + [large_canal(chance) for _ in range(10)]:
+            standing = some_standing(chance, canal)
+            for most in (5, 10 ** 12):
+                row, times = some_row(chance, canal, standing, chance.choice((0, 1, 10, 80)))
+                tolls = some_tolls(chance, canal, most)
+                really = pays(canal, tolls, standing, row)
+                what, by = paid(canal, tolls, standing, times[-1])
+                with self.subTest((canal, tolls, standing, row)):
+                    self.same(paid_by(canal, tolls, standing, row), really)
+                    self.same(by, step(canal, tolls))
+                    self.assertTrue(is_multiple(really - what, by))
+                    self.assertTrue(by == 0 or 0 <= what < by)
