@@ -101,6 +101,53 @@ class Language(unittest.TestCase):
             self.assertTrue(done, imported)
             imported = {name: imported[name] for name in imported if name not in done}
 
+    def test_what_has_lists_alone_beside_a_class_that_compares(self):
+        for file, tree in self.trees():
+            for node in ast.walk(tree):
+                self.assertNotIsInstance(node, ast.GeneratorExp)
+                if isinstance(node, ast.Attribute):
+                    self.assertNotEqual(node.attr, "sort")
+
+    def test_no_name_is_a_method_and_an_attribute(self):
+        methods, assigned, read = set(), set(), set()
+        for file, tree in self.trees():
+            for node in ast.walk(tree):
+                if isinstance(node, ast.ClassDef):
+                    methods |= {part.name for part in node.body if isinstance(part, ast.FunctionDef)}
+                if isinstance(node, ast.Attribute):
+                    (assigned if isinstance(node.ctx, ast.Store) else read).add(node.attr)
+        self.assertIn("canal", methods)
+        self.assertIn("at", assigned)
+        self.assertFalse(methods & assigned)
+        builtin = set(dir(str)) | set(dir(list)) | set(dir(dict)) | set(dir(int)) | set(dir(set)) | set(dir(bytes))
+        self.assertFalse((methods | assigned) & builtin - {"__init__", "__eq__", "__len__", "__repr__"})
+        self.assertFalse(read - methods - assigned - builtin)
+
+    def test_methods_are_few_and_a_class_stands_at_the_top(self):
+        for file, tree in self.trees():
+            classes = [node for node in ast.walk(tree) if isinstance(node, ast.ClassDef)]
+            self.assertEqual(classes, [node for node in tree.body if isinstance(node, ast.ClassDef)])
+            for node in classes:
+                self.assertFalse(node.decorator_list)
+                for part in node.body:
+                    if isinstance(part, ast.FunctionDef) and part.name.startswith("__"):
+                        self.assertIn(part.name, ("__init__", "__eq__", "__len__", "__repr__"))
+
+    def test_only_own_errors_are_caught(self):
+        for file, tree in self.trees():
+            imported = {name.name for node in tree.body if isinstance(node, ast.ImportFrom) for name in node.names}
+            for node in ast.walk(tree):
+                if isinstance(node, ast.ExceptHandler):
+                    self.assertIn(node.type.id, imported)
+
+    def test_each_method_of_the_interface_stands_in_its_class(self):
+        tree = ast.parse((FOLDER / "keep.py").read_text())
+        body = [node for node in tree.body if isinstance(node, ast.ClassDef) and node.name == "Keep"][0].body
+        found = {node.name for node in body if isinstance(node, ast.FunctionDef)}
+        self.assertLessEqual(set("""
+            go row fill drain turn dig undo canal standing deeds hands almanac paid went as_of twin log
+            __init__ __eq__ __len__ __repr__""".split()), found)
+
 
 if __name__ == "__main__":
     unittest.main()

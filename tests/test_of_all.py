@@ -6,17 +6,21 @@ import random
 from crosslocks.alone import asleep, leads, row_alone, woken
 from crosslocks.canals import exchanged, exchanged_standing, is_canal, is_standing, pieces, together
 from crosslocks.counts import almanac, counts, rounds, shows_counts, shows_round, sure
-from crosslocks.errors import Loose, NoBoat, NoCounts, Others, TooMany
+from crosslocks.desk import answers
+from crosslocks.errors import BadRow, Loose, NoBoat, NoCounts, Others, TooMany
 from crosslocks.goings import gone, gone_all, may_go, went
 from crosslocks.heights import bar, is_heights, shows_bar, weight
+from crosslocks.maps import canal_of, faces, is_flat, is_map, trees
 from crosslocks.measures import have_counts, lots, measures, scales
 from crosslocks.plenty import fewest, how_many, is_enough, plain_row, wanted
 from crosslocks.small import far, is_stuck, lot_of, scarce, shows_lot, way
 from crosslocks.tellers import known, round_by, shows_teller, stride, teller
+from crosslocks.texts import canal_in, canal_text, standing_in, standing_text
 from crosslocks.tolls import paid, paid_by, step
 from tests.apart import (
     BESIDE, FOUR, KINDS, TWICE, are_heights, bars, changed, fits, goes_round, large_canal, moved, ring_of,
     some_pair, tells)
+from tests.charts import CROSSED, HUB, NESTED, ONE_BASIN
 from tests.samples import FULL, LOOPS, RING, WIDE, Case, emptied, exact, listed, mixed, tupled
 from tests.through import is_multiple
 
@@ -131,6 +135,25 @@ CALLS += [
     (woken, {"canal": RING, "standing": ((0, 1, 0), (0, 0, 0), (0, 0, 0)), "water": "red", "basin": 1}, []),
     (woken, {"canal": RING, "standing": ((0, 1, 0), (0, 0, 0), (0, 0, 1)), "water": "red", "basin": 0}, None),
 ]
+LOCK_TEXT = "canal 2 2\nlock 0 1 0 1"
+LOW_TEXT = "reds 2 0\nblues 0 1\nlocks 0"
+CALLS += [
+    (is_map, {"thing": HUB}, True),
+    (is_map, {"thing": listed(HUB)}, False),
+    (is_map, {"thing": ONE_BASIN}, True),
+    (faces, {"chart": ONE_BASIN}, [[]]),
+    (faces, {"chart": NESTED}, [[(0, 0)], [(1, 0), (0, 1)], [(1, 1)]]),
+    (is_flat, {"chart": HUB}, True),
+    (is_flat, {"chart": CROSSED}, False),
+    (canal_of, {"chart": NESTED}, (1, 3, ((0, 0, 1, 0), (0, 0, 2, 1)))),
+    (trees, {"canal": FOUR}, 16),
+    (canal_text, {"canal": LOCK}, LOCK_TEXT),
+    (canal_in, {"text": LOCK_TEXT}, LOCK),
+    (standing_text, {"standing": LOW}, LOW_TEXT),
+    (standing_in, {"canal": LOCK, "text": LOW_TEXT}, LOW),
+    (answers, {"text": LOCK_TEXT + "\n" + LOW_TEXT + "\ngo 0 red\nmay"}, ["done", "0 red; 0 blue"]),
+    (answers, {"text": LOCK_TEXT + "\n" + LOW_TEXT}, []),
+]
 # Which one is told isn't promised: the same one each time, whatever way it's asked.
 UNPROMISED = [
     (counts, {"canal": RING, "one": STANDING, "other": STANDING}),
@@ -170,6 +193,9 @@ REFUSED = [
     (leads, {"canal": RING, "one": STANDING, "other": STANDING, "water": "blue"}, Others, "basin", 0),
     (row_alone, {"canal": RING, "one": STANDING, "other": STANDING, "water": "red"}, Others, "basin", 1),
     (woken, {"canal": RING, "standing": STANDING, "water": "blue", "basin": 2}, Others, "basin", 0),
+    (canal_in, {"text": LOCK_TEXT + "\nlock 0 1 0"}, BadRow, "at", 2),
+    (standing_in, {"canal": LOCK, "text": "reds 2 0"}, BadRow, "at", 1),
+    (answers, {"text": LOCK_TEXT + "\n" + LOW_TEXT + "\nundo\ngo"}, BadRow, "at", 6),
 ]
 
 

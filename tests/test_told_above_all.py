@@ -1,4 +1,4 @@
-"""Point [1] (a) to (e), (g): over canals and rows of goings that are made up here."""
+"""Point [1] (a) to (g): over canals, maps, Keeps and rows of goings that are made up here."""
 
 import random
 
@@ -7,6 +7,8 @@ from crosslocks.canals import exchanged, exchanged_standing
 from crosslocks.counts import almanac, counts, shows_counts, shows_round, sure
 from crosslocks.goings import gone_all
 from crosslocks.heights import bar, shows_bar, weight
+from crosslocks.keep import Keep
+from crosslocks.maps import canal_of, is_flat, is_map, trees
 from crosslocks.measures import have_counts, lots, measures, scales
 from crosslocks.plenty import fewest, how_many, is_enough, plain_row, wanted
 from crosslocks.small import far, lot_of, scarce, way
@@ -14,6 +16,8 @@ from crosslocks.tellers import known, round_by, stride
 from crosslocks.tolls import paid, paid_by, step
 from tests.apart import (
     FOUR, KINDS, TWICE, all_canals, changed, goes_round, large_canal, moved, other_boats, ring_of, some_ends, some_pair)
+from tests.charts import flat_maps, trees_in
+from tests.model import Model, Refused, error_of, some_deed
 from tests.samples import Case, some_row, some_standing
 from tests.through import all_alone, behind, is_multiple, pays, rows_to_all, shortest_with, some_tolls, went_in
 
@@ -196,6 +200,27 @@ class OneWaterAlone(Case):
                     self.assertIs(leads(exchanged(canal), *turned, "blue"), comes)
 
 
+class FlatMaps(Case):
+    """(f)"""
+
+    def test_each_lock_is_sure_and_measures_multiply_to_the_trees(self):
+        chance = random.Random(92)
+        for chart in flat_maps(100):
+            canal = canal_of(chart)
+            with self.subTest(chart):
+                self.same((is_map(chart), is_flat(chart)), (True, True))
+                self.same(sure(canal), list(range(len(canal[2]))))
+                told = 1
+                for measure in measures(canal):
+                    told *= measure if measure > 1 else 1
+                self.same(told, trees_in(canal))
+                self.same(trees(canal), trees_in(canal))
+                self.same(trees_in(exchanged(canal)), trees_in(canal))
+                # So all that went is told, however it went.
+                one, other, reds, blues = some_ends(chance, canal)
+                self.same(almanac(canal, one, other), list(zip(reds, blues)))
+
+
 class WhatWasPaid(Case):
     """(g)"""
 
@@ -213,3 +238,30 @@ class WhatWasPaid(Case):
                     self.same(by, step(canal, tolls))
                     self.assertTrue(is_multiple(really - what, by))
                     self.assertTrue(by == 0 or 0 <= what < by)
+
+
+class ACanalKept(Case):
+    """(g)"""
+
+    def test_the_almanac_whatever_went_between(self):
+        chance = random.Random(93)
+        for chart in flat_maps(30):
+            canal = canal_of(chart)
+            standing = some_standing(chance, canal, 2)
+            keep, model = Keep(canal, standing), Model(canal, standing)
+            for _ in range(30):
+                word, *handed = some_deed(chance, model)
+                if word == "dig":
+                    continue
+                try:
+                    model.do(word, *handed)
+                except Refused as refusal:
+                    self.refused(*error_of(refusal), getattr(keep, word), *handed)
+                else:
+                    getattr(keep, word)(*handed)
+            tolls = some_tolls(chance, canal)
+            with self.subTest((chart, standing, model.deeds)):
+                # Each lock is sure, so the almanac is all that really went, and what was paid is told.
+                self.same(keep.almanac(), list(zip(*model.went())))
+                self.same(keep.paid(tolls), (model.pays(tolls), 0))
+                self.same(keep.went(), model.went())
